@@ -8,17 +8,8 @@ import (
 
 	"hatchway/api"
 	"hatchway/chacha"
+	"hatchway/samples"
 )
-
-// unhex answers the bytes of a text to base sixteen.
-func unhex(t *testing.T, text string) []byte {
-	t.Helper()
-	b, err := hex.DecodeString(text)
-	if err != nil {
-		t.Fatal(err)
-	}
-	return b
-}
 
 // rising answers n bytes, each one greater than the one ahead of it.
 func rising(n, from int) []byte {
@@ -125,7 +116,7 @@ func TestStreamOfKnownTexts(t *testing.T) {
 		{"RFC 8439, 2.4.2", rising(32, 0), 1, api.ID{7: 0x4a},
 			"Ladies and Gentlemen of the class of '99: If I could offer you only one tip for the future, sunscreen would be it.",
 			"6e2e359a2568f98041ba0728dd0d6981e97e7aec1d4360c20a27afccfd9fae0bf91b65c5524733ab8f593dabcd62b3571639d624e65152ab8f530c359f0861d807ca0dbf500d6a6156a38e088a22b65e52bc514d16ccf806818ce91ab77937365af90bbf74a35be6b40b8eedf2785e42874d"},
-		{"RFC 8439, A.2, 3", unhex(t, "1c9240a5eb55d38af333888604f6b5f0473917c1402b80099dca5cbc207075c0"), 42, api.ID{11: 2},
+		{"RFC 8439, A.2, 3", samples.Hex("1c9240a5eb55d38af333888604f6b5f0473917c1402b80099dca5cbc207075c0"), 42, api.ID{11: 2},
 			"'Twas brillig, and the slithy toves\nDid gyre and gimble in the wabe:\nAll mimsy were the borogoves,\nAnd the mome raths outgrabe.",
 			"62e6347f95ed87a45ffae7426f27a1df5fb69110044c0d73118effa95b01e5cf166d3df2d721caf9b21e5fb14c616871fd84c54f9d65b283196c7fe4f60553ebf39c6402c42234e32a356b3e764312a61a5532055716ead6962568f87d3f3f7704c6a8d1bcd1bf4d50d6154b6da731b187b58dfd728afa36757a797ac188d1"},
 	} {

@@ -10,22 +10,13 @@ import (
 
 	"hatchway/api"
 	"hatchway/poly"
+	"hatchway/samples"
 )
 
 const (
 	ietf  = "Any submission to the IETF intended by the Contributor for publication as all or part of an IETF Internet-Draft or RFC and any statement made within the context of an IETF activity is considered an \"IETF Contribution\". Such statements include oral statements in IETF sessions, as well as written and electronic communications made at any time or place, which are addressed to"
 	toves = "'Twas brillig, and the slithy toves\nDid gyre and gimble in the wabe:\nAll mimsy were the borogoves,\nAnd the mome raths outgrabe."
 )
-
-// unhex answers the bytes of a text to base sixteen.
-func unhex(t *testing.T, text string) []byte {
-	t.Helper()
-	b, err := hex.DecodeString(strings.ReplaceAll(text, " ", ""))
-	if err != nil {
-		t.Fatal(err)
-	}
-	return b
-}
 
 // keyOf answers the key of R and S, that are short of 0s at their ends.
 func keyOf(r, s string) api.Key {
@@ -38,22 +29,6 @@ func keyOf(r, s string) api.Key {
 // full is n bytes with all bits.
 func full(n int) string {
 	return strings.Repeat("\xff", n)
-}
-
-// mixed answers n bytes without a plain order, others for each seed.
-func mixed(n int, seed uint32) []byte {
-	b := make([]byte, n)
-	x := seed*2654435761 + 12345
-	for i := range b {
-		x = x*1664525 + 1013904223
-		b[i] = byte(x >> 24)
-	}
-	return b
-}
-
-// mixedKey answers a key of the seed.
-func mixedKey(seed uint32) api.Key {
-	return api.Key(mixed(32, seed))
 }
 
 // power answers 2^n.
@@ -136,7 +111,7 @@ func keys() []api.Key {
 		{15: 0x0f, 12: 0xfc},
 	}
 	for seed := range uint32(8) {
-		all = append(all, mixedKey(seed))
+		all = append(all, samples.Key(seed))
 	}
 	return all
 }
@@ -150,9 +125,9 @@ func TestSumOfKnownKeys(t *testing.T) {
 		{"2.5.2", "85d6be7857556d337f4452fe42d506a8 0103808afb0db2fd4abff6af4149f51b",
 			[]byte("Cryptographic Forum Research Group"), "a8061dc1305136c6c22b8baf0c0127a9"},
 		{"2.8.2", "7bac2b252db447af09b67a55a4e95584 0ae1d6731075d9eb2a9375783ed553ff",
-			unhex(t, "50515253c0c1c2c3c4c5c6c700000000"+
-				"d31a8d34648e60db7b86afbc53ef7ec2a4aded51296e08fea9e2b5a736ee62d63dbea45e8ca9671282fafb69da92728b1a71de0a9e060b2905d6a5b67ecd3b3692ddbd7f2d778b8c9803aee328091b58fab324e4fad675945585808b4831d7bc3ff4def08e4b7a9de576d26586cec64b6116"+
-				"0000000000000000000000000000"+"0c000000000000007200000000000000"),
+			samples.Hex("50515253c0c1c2c3c4c5c6c700000000" +
+				"d31a8d34648e60db7b86afbc53ef7ec2a4aded51296e08fea9e2b5a736ee62d63dbea45e8ca9671282fafb69da92728b1a71de0a9e060b2905d6a5b67ecd3b3692ddbd7f2d778b8c9803aee328091b58fab324e4fad675945585808b4831d7bc3ff4def08e4b7a9de576d26586cec64b6116" +
+				"0000000000000000000000000000" + "0c000000000000007200000000000000"),
 			"1ae10b594f09e26a7e902ecbd0600691"},
 		{"A.3, 1", "00", make([]byte, 64), "00000000000000000000000000000000"},
 		{"A.3, 2", "00000000000000000000000000000000 36e5f6b5c5e06070f0efca96227a863e",
@@ -162,23 +137,23 @@ func TestSumOfKnownKeys(t *testing.T) {
 			[]byte(toves), "4541669a7eaaee61e708dc7cbcc5eb62"},
 		{"A.3, 5", "02", []byte(full(16)), "03000000000000000000000000000000"},
 		{"A.3, 6", "02000000000000000000000000000000 ffffffffffffffffffffffffffffffff",
-			unhex(t, "02000000000000000000000000000000"), "03000000000000000000000000000000"},
+			samples.Hex("02000000000000000000000000000000"), "03000000000000000000000000000000"},
 		{"A.3, 7", "01",
-			unhex(t, "ffffffffffffffffffffffffffffffff f0ffffffffffffffffffffffffffffff 11000000000000000000000000000000"),
+			samples.Hex("ffffffffffffffffffffffffffffffff f0ffffffffffffffffffffffffffffff 11000000000000000000000000000000"),
 			"05000000000000000000000000000000"},
 		{"A.3, 8", "01",
-			unhex(t, "ffffffffffffffffffffffffffffffff fbfefefefefefefefefefefefefefefe 01010101010101010101010101010101"),
+			samples.Hex("ffffffffffffffffffffffffffffffff fbfefefefefefefefefefefefefefefe 01010101010101010101010101010101"),
 			"00000000000000000000000000000000"},
-		{"A.3, 9", "02", unhex(t, "fdffffffffffffffffffffffffffffff"), "faffffffffffffffffffffffffffffff"},
+		{"A.3, 9", "02", samples.Hex("fdffffffffffffffffffffffffffffff"), "faffffffffffffffffffffffffffffff"},
 		{"A.3, 10", "01000000000000000400000000000000",
-			unhex(t, "e33594d7505e43b90000000000000000 3394d7505e4379cd0100000000000000 00000000000000000000000000000000 01000000000000000000000000000000"),
+			samples.Hex("e33594d7505e43b90000000000000000 3394d7505e4379cd0100000000000000 00000000000000000000000000000000 01000000000000000000000000000000"),
 			"14000000000000005500000000000000"},
 		{"A.3, 11", "01000000000000000400000000000000",
-			unhex(t, "e33594d7505e43b90000000000000000 3394d7505e4379cd0100000000000000 00000000000000000000000000000000"),
+			samples.Hex("e33594d7505e43b90000000000000000 3394d7505e4379cd0100000000000000 00000000000000000000000000000000"),
 			"13000000000000000000000000000000"},
 	} {
 		var key api.Key
-		copy(key[:], unhex(t, c.key))
+		copy(key[:], samples.Hex(c.key))
 		if got := poly.Sum(key, c.b); hex.EncodeToString(got[:]) != c.want {
 			t.Errorf("RFC 8439, %s: got %x, want %s", c.name, got, c.want)
 		}
@@ -191,7 +166,7 @@ func TestSumOfKnownKeys(t *testing.T) {
 
 func TestOfNothingItIsS(t *testing.T) {
 	for _, key := range keys() {
-		for _, b := range [][]byte{nil, {}, make([]byte, 0, 32), mixed(32, 1)[:0]} {
+		for _, b := range [][]byte{nil, {}, make([]byte, 0, 32), samples.Mixed(32, 1)[:0]} {
 			if got := poly.Sum(key, b); string(got[:]) != string(key[16:]) {
 				t.Errorf("key %x: got %x", key, got)
 			}
@@ -203,9 +178,9 @@ func TestOfNothingItIsS(t *testing.T) {
 func TestOfAKeyWithoutRItIsS(t *testing.T) {
 	for _, r := range []string{"", "\x00\x00\x00\xf0\x03\x00\x00\xf0\x03\x00\x00\xf0\x03\x00\x00\xf0"} {
 		for seed := range uint32(4) {
-			key := keyOf(r, string(mixed(16, seed)))
+			key := keyOf(r, string(samples.Mixed(16, seed)))
 			for _, n := range []int{0, 1, 15, 16, 17, 32, 100, 1500} {
-				for _, b := range [][]byte{mixed(n, seed), make([]byte, n), []byte(full(n))} {
+				for _, b := range [][]byte{samples.Mixed(n, seed), make([]byte, n), []byte(full(n))} {
 					if got := poly.Sum(key, b); string(got[:]) != string(key[16:]) {
 						t.Errorf("key %x, %d bytes: got %x", key, n, got)
 					}
@@ -218,12 +193,12 @@ func TestOfAKeyWithoutRItIsS(t *testing.T) {
 func TestSumOfAllLengths(t *testing.T) {
 	for i, key := range keys() {
 		for n := range 100 {
-			check(t, "mixed", key, mixed(n, uint32(i)))
+			check(t, "mixed", key, samples.Mixed(n, uint32(i)))
 			check(t, "without bits", key, make([]byte, n))
 			check(t, "with all bits", key, []byte(full(n)))
 		}
 		for _, n := range []int{255, 256, 257, 1000, 1500, 1<<16 + 3} {
-			check(t, "many parts", key, mixed(n, uint32(i)))
+			check(t, "many parts", key, samples.Mixed(n, uint32(i)))
 			check(t, "many parts with all bits", key, []byte(full(n)))
 		}
 	}
@@ -232,7 +207,7 @@ func TestSumOfAllLengths(t *testing.T) {
 // With R 1 and S 0 a part's tag is the part itself, and a 1 behind it where it is shorter than sixteen bytes.
 func TestAShortPartHasAOneBehindIt(t *testing.T) {
 	for n := range 16 {
-		b := mixed(n, 9)
+		b := samples.Mixed(n, 9)
 		var want [16]byte
 		if n > 0 {
 			copy(want[:], b)
@@ -242,7 +217,7 @@ func TestAShortPartHasAOneBehindIt(t *testing.T) {
 			t.Errorf("%d bytes: got %x, want %x", n, got, want)
 		}
 	}
-	sixteen := mixed(16, 9)
+	sixteen := samples.Mixed(16, 9)
 	if got := poly.Sum(keyOf("\x01", ""), sixteen); string(got[:]) != string(sixteen) {
 		t.Errorf("sixteen bytes: got %x, want %x", got, sixteen)
 	}
@@ -255,7 +230,7 @@ func TestZerosAtTheEndCount(t *testing.T) {
 	for _, text := range []string{"", "a", "fifteen bytes..", "sixteen bytes...", "seventeen bytes.."} {
 		seen := map[[16]byte]int{}
 		for n := range 40 {
-			tag := poly.Sum(mixedKey(3), append([]byte(text), make([]byte, n)...))
+			tag := poly.Sum(samples.Key(3), append([]byte(text), make([]byte, n)...))
 			if other, ok := seen[tag]; ok {
 				t.Errorf("%q: %d zeros are as %d", text, n, other)
 			}
@@ -265,20 +240,20 @@ func TestZerosAtTheEndCount(t *testing.T) {
 }
 
 func TestTheOrderOfPartsCounts(t *testing.T) {
-	b := mixed(48, 5)
+	b := samples.Mixed(48, 5)
 	turned := slices.Concat(b[16:32], b[:16], b[32:])
-	if poly.Sum(mixedKey(5), b) == poly.Sum(mixedKey(5), turned) {
+	if poly.Sum(samples.Key(5), b) == poly.Sum(samples.Key(5), turned) {
 		t.Error("two parts may be changed for each other")
 	}
 }
 
 func TestEachBitOfTheTextCounts(t *testing.T) {
-	text := mixed(37, 6)
-	seen := map[[16]byte]int{poly.Sum(mixedKey(6), text): -1}
+	text := samples.Mixed(37, 6)
+	seen := map[[16]byte]int{poly.Sum(samples.Key(6), text): -1}
 	for bit := range 8 * len(text) {
 		other := bytes.Clone(text)
 		other[bit/8] ^= 1 << (bit % 8)
-		tag := poly.Sum(mixedKey(6), other)
+		tag := poly.Sum(samples.Key(6), other)
 		if as, ok := seen[tag]; ok {
 			t.Errorf("bit %d counts as bit %d", bit, as)
 		}
@@ -291,7 +266,7 @@ func TestBitsOfTheKeyThatAreTakenAsZero(t *testing.T) {
 		t.Fatalf("there are %d", len(ignored()))
 	}
 	for _, key := range keys() {
-		for _, b := range [][]byte{mixed(5, 2), mixed(16, 2), mixed(50, 2), []byte(full(48))} {
+		for _, b := range [][]byte{samples.Mixed(5, 2), samples.Mixed(16, 2), samples.Mixed(50, 2), []byte(full(48))} {
 			want := poly.Sum(key, b)
 			all := key
 			for _, bit := range ignored() {
@@ -310,8 +285,8 @@ func TestBitsOfTheKeyThatAreTakenAsZero(t *testing.T) {
 }
 
 func TestEachOtherBitOfTheKeyCounts(t *testing.T) {
-	for _, b := range [][]byte{mixed(5, 2), mixed(16, 2), mixed(50, 2)} {
-		key := mixedKey(4)
+	for _, b := range [][]byte{samples.Mixed(5, 2), samples.Mixed(16, 2), samples.Mixed(50, 2)} {
+		key := samples.Key(4)
 		seen := map[[16]byte]int{poly.Sum(key, b): -1}
 		for bit := range 256 {
 			if slices.Contains(ignored(), bit) {
@@ -393,7 +368,7 @@ func reaching(t *testing.T, key api.Key, target *big.Int) []byte {
 	wanted := new(big.Int).ModInverse(multiplier(key), prime())
 	wanted.Mul(wanted, target)
 	for seed := range uint32(1000) {
-		four := mixed(64, seed)
+		four := samples.Mixed(64, seed)
 		n := new(big.Int).Sub(wanted, behind(key, four))
 		n.Mod(n, prime())
 		// A whole part has its 1 at the bit 128, and nothing above it.
@@ -424,8 +399,8 @@ func edges() []*big.Int {
 }
 
 func TestProductsAtTheEdges(t *testing.T) {
-	for _, r := range []string{"\x01", "\x02", "\x05", full(16), string(mixed(16, 1)), string(mixed(16, 2)), "\x00\x00\x00\x04", strings.Repeat("\x00", 15) + "\x08"} {
-		for _, s := range []string{"", "\x01", full(16), string(mixed(16, 3))} {
+	for _, r := range []string{"\x01", "\x02", "\x05", full(16), string(samples.Mixed(16, 1)), string(samples.Mixed(16, 2)), "\x00\x00\x00\x04", strings.Repeat("\x00", 15) + "\x08"} {
+		for _, s := range []string{"", "\x01", full(16), string(samples.Mixed(16, 3))} {
 			key := keyOf(r, s)
 			for _, target := range edges() {
 				b := reaching(t, key, target)
@@ -450,9 +425,9 @@ func sumRounds(a *big.Int, off int64) string {
 
 func TestTheSumWithSGoesRound(t *testing.T) {
 	for seed := range uint32(10) {
-		key := mixedKey(seed)
+		key := samples.Key(seed)
 		for _, n := range []int{1, 16, 17, 60} {
-			b := mixed(n, seed+50)
+			b := samples.Mixed(n, seed+50)
 			a := behind(key, b)
 			for off, want := range map[int64][16]byte{
 				-2: [16]byte([]byte("\xfe" + full(15))),
@@ -484,34 +459,34 @@ func TestTheOneBehindAWholePartGoesAway(t *testing.T) {
 }
 
 func TestWhatIsHandedInStaysAsItWas(t *testing.T) {
-	key := mixedKey(7)
+	key := samples.Key(7)
 	for n := range 50 {
-		whole := mixed(80, 7)
+		whole := samples.Mixed(80, 7)
 		poly.Sum(key, whole[:n])
-		if !bytes.Equal(whole, mixed(80, 7)) {
+		if !bytes.Equal(whole, samples.Mixed(80, 7)) {
 			t.Errorf("%d bytes: they became %x", n, whole)
 		}
 	}
-	if key != mixedKey(7) {
+	if key != samples.Key(7) {
 		t.Errorf("the key became %x", key)
 	}
 }
 
 func TestWhatLiesBehindTheBytesDoesNotCount(t *testing.T) {
 	for n := range 50 {
-		one, two := mixed(80, 7), mixed(80, 7)
+		one, two := samples.Mixed(80, 7), samples.Mixed(80, 7)
 		clear(two[n:])
-		if poly.Sum(mixedKey(7), one[:n]) != poly.Sum(mixedKey(7), two[:n]) {
+		if poly.Sum(samples.Key(7), one[:n]) != poly.Sum(samples.Key(7), two[:n]) {
 			t.Errorf("behind %d bytes something counts", n)
 		}
 	}
 }
 
 func TestAnAnswerIsTheCallers(t *testing.T) {
-	b := mixed(40, 8)
-	got := poly.Sum(mixedKey(8), b)
+	b := samples.Mixed(40, 8)
+	got := poly.Sum(samples.Key(8), b)
 	before := got
-	again := poly.Sum(mixedKey(8), b)
+	again := poly.Sum(samples.Key(8), b)
 	clear(b)
 	if got != before {
 		t.Error("the answer hangs on what was handed in")
@@ -525,18 +500,18 @@ func TestAnAnswerIsTheCallers(t *testing.T) {
 	if !bytes.Equal(b, make([]byte, 40)) {
 		t.Error("what was handed in hangs on the answer")
 	}
-	if poly.Sum(mixedKey(8), mixed(40, 8)) != before {
+	if poly.Sum(samples.Key(8), samples.Mixed(40, 8)) != before {
 		t.Error("an answer hangs on an earlier one")
 	}
 }
 
 func TestTheSameCallsHaveTheSameAnswers(t *testing.T) {
-	b := mixed(70, 9)
-	want := poly.Sum(mixedKey(9), b)
+	b := samples.Mixed(70, 9)
+	want := poly.Sum(samples.Key(9), b)
 	for seed := range uint32(20) {
 		// Calls between them must not count.
-		poly.Sum(mixedKey(seed), mixed(int(seed)*3, seed))
-		if got := poly.Sum(mixedKey(9), b); got != want {
+		poly.Sum(samples.Key(seed), samples.Mixed(int(seed)*3, seed))
+		if got := poly.Sum(samples.Key(9), b); got != want {
 			t.Errorf("got %x, want %x", got, want)
 		}
 	}
