@@ -45,15 +45,6 @@ func flipped(key api.Key, bit int) api.Key {
 	return api.Key(samples.Flipped(key[:], bit))
 }
 
-// smalls answers each u of 255 bits whose point is of small order: 8 times it is nothing.
-func smalls() []api.Key {
-	return []api.Key{
-		{}, {1}, prime(-1), prime(0), prime(1),
-		keyOf("e0eb7a7c3b41b8ae1656e3faf19fc46ada098deb9c32b1fd866205165f49b800"),
-		keyOf("5f9c95bca3508c24b1d0b1559c83ef5b04445cc4581c8e86d8224eddd09f1157"),
-	}
-}
-
 // edges answers u at the edges that are of no small order; some have the highest bit.
 func edges() []api.Key {
 	return []api.Key{
@@ -229,7 +220,7 @@ func TestMultAtTheEdgesOfU(t *testing.T) {
 
 func TestMultAsGosLibraryTellsIt(t *testing.T) {
 	for i, k := range keys() {
-		for j, u := range slices.Concat(smalls(), edges(), keys()) {
+		for j, u := range slices.Concat(samples.Smalls(), edges(), keys()) {
 			areSame(t, fmt.Sprint("key ", i, ", u ", j), curve.Mult(k, u), library(t, k, u))
 		}
 	}
@@ -288,7 +279,7 @@ func TestAllOtherBitsOfKCount(t *testing.T) {
 }
 
 func TestAllBitsOfUCountButTheHighest(t *testing.T) {
-	for i, u := range slices.Concat(smalls(), edges(), keys()) {
+	for i, u := range slices.Concat(samples.Smalls(), edges(), keys()) {
 		k := samples.Key(uint32(i))
 		areSame(t, fmt.Sprint("u ", i), curve.Mult(k, flipped(u, 255)), curve.Mult(k, u))
 	}
@@ -335,7 +326,7 @@ func TestSharedOfKnownKeys(t *testing.T) {
 }
 
 func TestSharedRefusesWhatComesToZero(t *testing.T) {
-	for i, u := range smalls() {
+	for i, u := range samples.Smalls() {
 		for j, k := range keys() {
 			isRefused(t, fmt.Sprint("u ", i, ", key ", j), k, u)
 			isRefused(t, fmt.Sprint("u ", i, " with its highest bit, key ", j), k, flipped(u, 255))
@@ -359,10 +350,10 @@ func TestSharedIsMultOfAllOthers(t *testing.T) {
 // Next to those that are refused are others, a bit away.
 func TestSharedTakesWhatIsABitAway(t *testing.T) {
 	k := samples.Key(7)
-	for i, u := range smalls() {
+	for i, u := range samples.Smalls() {
 		for bit := range 255 {
 			other := flipped(u, bit)
-			if slices.Contains(smalls(), other) {
+			if slices.Contains(samples.Smalls(), other) {
 				continue
 			}
 			isShared(t, fmt.Sprint("u ", i, ", bit ", bit), k, other, library(t, k, other))
@@ -400,14 +391,14 @@ func TestBothHaveTheSameSecretOfKeysAtTheEdges(t *testing.T) {
 
 // Whatever u is, not 9 alone: also where no public key lies.
 func TestMultsGoTogether(t *testing.T) {
-	for i, u := range slices.Concat(smalls(), edges(), keys()) {
+	for i, u := range slices.Concat(samples.Smalls(), edges(), keys()) {
 		one, two := samples.Key(uint32(i)+200), samples.Key(uint32(i)+300)
 		areSame(t, fmt.Sprint("u ", i), curve.Mult(one, curve.Mult(two, u)), curve.Mult(two, curve.Mult(one, u)))
 	}
 }
 
 func TestWhatIsHandedInStaysAsItWas(t *testing.T) {
-	for i, u := range slices.Concat(smalls(), edges()) {
+	for i, u := range slices.Concat(samples.Smalls(), edges()) {
 		// All bits: those of k that do not count are 1, too.
 		k, was := full(), u
 		curve.Mult(k, u)
@@ -441,7 +432,7 @@ func TestAnAnswerIsTheCallers(t *testing.T) {
 func TestTheSameCallsHaveTheSameAnswers(t *testing.T) {
 	all := func() string {
 		out := ""
-		for i, u := range slices.Concat(smalls(), edges()) {
+		for i, u := range slices.Concat(samples.Smalls(), edges()) {
 			k := samples.Key(uint32(i))
 			secret, e := curve.Shared(k, u)
 			out += fmt.Sprintf("%x %x %x %d\n", curve.Mult(k, u), curve.Public(k), secret, e)

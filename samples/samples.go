@@ -53,3 +53,18 @@ func Flipped(b []byte, bit int) []byte {
 	other[bit/8] ^= 1 << (bit % 8)
 	return other
 }
+
+// Smalls answers each public key, its highest bit aside, with which nobody has a secret.
+func Smalls() []api.Key {
+	all := []api.Key{{}, {1}}
+	for _, text := range []string{
+		"e0eb7a7c3b41b8ae1656e3faf19fc46ada098deb9c32b1fd866205165f49b800",
+		"5f9c95bca3508c24b1d0b1559c83ef5b04445cc4581c8e86d8224eddd09f1157",
+		"ecffffffffffffffffffffffffffffffffffffffffffffffffffffffffffff7f",
+		"edffffffffffffffffffffffffffffffffffffffffffffffffffffffffffff7f",
+		"eeffffffffffffffffffffffffffffffffffffffffffffffffffffffffffff7f",
+	} {
+		all = append(all, api.Key(Hex(text)))
+	}
+	return all
+}

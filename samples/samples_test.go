@@ -49,3 +49,17 @@ func TestFlipped(t *testing.T) {
 		t.Errorf("it became %x", b)
 	}
 }
+
+// That they are no good, curve's tests tell.
+func TestSmallsAreSevenKeys(t *testing.T) {
+	seen := map[[32]byte]bool{}
+	for _, key := range samples.Smalls() {
+		seen[key] = true
+		if key[31]&128 != 0 {
+			t.Errorf("%x has the highest bit", key)
+		}
+	}
+	if len(seen) != 7 {
+		t.Errorf("they are %d", len(seen))
+	}
+}
